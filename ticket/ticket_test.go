@@ -1,7 +1,6 @@
 package ticket
 
 import (
-	"math"
 	"slices"
 	"strings"
 	"testing"
@@ -50,10 +49,7 @@ var chapterCode = api.Code{
 }
 
 // starts are numbers at which numbers begin; from the last ones on they go round.
-var starts = []uint32{0, 1, 2, 63, 64, 4095, 4096, 1<<31 - 1, 1 << 31, 1<<31 + 1, top - 63, top - 1, top}
-
-// wrongSizes are no numbers of threads; cut down to 32 bits, to 8 or to 7, many of them would be fine.
-var wrongSizes = []int{0, -1, -2, -64, 65, 66, 100, 127, 128, 129, 256, 257, 1 << 31, 1 << 32, 1<<32 + 1, -1 << 32, 1 - 1<<32, math.MaxInt, math.MaxInt - 1, math.MinInt, math.MinInt + 1}
+var starts = locktest.Starts()
 
 func spec(t *testing.T, n int, start uint32) api.Spec {
 	t.Helper()
@@ -134,7 +130,7 @@ func TestSpecIsALocks(t *testing.T) {
 }
 
 func TestSpecRefusesWhatMayNotBe(t *testing.T) {
-	for _, n := range wrongSizes {
+	for _, n := range locktest.WrongSizes() {
 		for _, start := range starts {
 			s, e := Spec(n, start)
 			if e != api.ErrConfig {
@@ -147,30 +143,14 @@ func TestSpecRefusesWhatMayNotBe(t *testing.T) {
 	}
 }
 
-// spoil lays other things into all of a spec, and into what room there is behind its lists.
-func spoil(s *api.Spec) {
-	for n := range s.Code.L[:cap(s.Code.L)] {
-		s.Code.L[:cap(s.Code.L)][n] = api.Inst{Op: api.Done, K: 3}
-	}
-	for n := range s.Sizes[:cap(s.Sizes)] {
-		s.Sizes[:cap(s.Sizes)][n] = 7
-	}
-	for _, l := range [][]uint32{s.Init, s.R7} {
-		for n := range l[:cap(l)] {
-			l[:cap(l)][n] = 77
-		}
-	}
-	s.Code.Lock, s.Code.Unlock, s.Each = 3, 4, 5
-}
-
 func TestWhatIsAnsweredIsItsOwn(t *testing.T) {
 	for _, n := range []int{1, 2, 63, 64} {
 		for _, start := range starts {
 			first, second := spec(t, n, start), spec(t, n, start)
-			spoil(&first)
+			locktest.Spoil(&first)
 			wantSpec(t, second, n, start)
 			wantSpec(t, spec(t, n, start), n, start)
-			spoil(&second)
+			locktest.Spoil(&second)
 			wantSpec(t, spec(t, n, start), n, start)
 		}
 	}
@@ -194,15 +174,6 @@ func TestListsOfOneAnswerShareNothing(t *testing.T) {
 
 // P14.2: steps told one by one
 
-// did is what a thread does next, what that comes to, and how all stands behind it: the two cells, and the thread's registers 1 and 2.
-type did struct {
-	thread int
-	how    string
-	out    exec.Out
-	words  [2]uint32
-	r1, r2 uint32
-}
-
 func began() exec.Out   { return exec.Out{Done: -1, Addr: -1} }
 func stays() exec.Out   { return exec.Out{Done: -1, Addr: 1, Stay: true} }
 func drew() exec.Out    { return exec.Out{Marks: []int{api.Enq}, Done: -1, Addr: 0, Wrote: true} }
@@ -210,93 +181,70 @@ func granted() exec.Out { return exec.Out{Marks: []int{api.Grant}, Done: api.Acq
 func called() exec.Out {
 	return exec.Out{Marks: []int{api.Release}, Done: api.Released, Addr: 1, Wrote: true}
 }
-func words(next, turn uint32) [2]uint32 { return [2]uint32{next, turn} }
+func words(next, turn uint32) []uint32  { return []uint32{next, turn} }
 func registers(r1, r2 uint32) [8]uint32 { return [8]uint32{1: r1, 2: r2} }
-func sameOut(a, b exec.Out) bool {
-	return slices.Equal(a.Marks, b.Marks) && a.Done == b.Done && a.Addr == b.Addr && a.Wrote == b.Wrote && a.Stay == b.Stay && a.E == b.E
+
+// told is what a thread does next, what that comes to, and how all stands behind it: the two cells, and the thread's registers 1 and 2.
+func told(thread, how int, out exec.Out, words []uint32, r1, r2 uint32) locktest.Told {
+	return locktest.Told{Thread: thread, How: how, Out: out, Words: words, R: registers(r1, r2)}
 }
 
-// doAll does what is told on a new lock at work. (Whoever waits may be late or not.)
-func doAll(t *testing.T, n int, start uint32, late bool, l []did) {
+// doTold does what is told on a new lock at work. (Whoever waits may be late or not.)
+func doTold(t *testing.T, n int, start uint32, l []locktest.Told) {
 	t.Helper()
-	x, e := exec.New(spec(t, n, start), n)
-	if e != api.OK {
-		t.Fatalf("New of Spec(%d, %d): error %d", n, start, e)
-	}
-	for k, c := range l {
-		var out exec.Out
-		switch c.how {
-		case "lock":
-			out = x.Begin(c.thread, false)
-		case "unlock":
-			out = x.Begin(c.thread, true)
-		default:
-			out = x.Step(c.thread, late)
-		}
-		if !sameOut(out, c.out) {
-			t.Errorf("from %d on, %d: the %s of %d comes to %+v, want %+v", start, k, c.how, c.thread, out, c.out)
-		}
-		if w := x.Words(); !slices.Equal(w, c.words[:]) {
-			t.Errorf("from %d on, %d: behind the %s of %d the cells are %v, want %v", start, k, c.how, c.thread, w, c.words)
-		}
-		if r := x.Core(c.thread).R; r != registers(c.r1, c.r2) {
-			t.Errorf("from %d on, %d: behind the %s of %d its registers are %v, want %v", start, k, c.how, c.thread, r, registers(c.r1, c.r2))
-		}
+	for _, late := range []bool{false, true} {
+		wantFine(t, n, start, locktest.DoTold(spec(t, n, start), n, late, l))
 	}
 }
 
 func TestOneThread(t *testing.T) {
 	for _, s := range starts {
-		for _, late := range []bool{false, true} {
-			doAll(t, 1, s, late, []did{
-				{0, "lock", began(), words(s, s), 0, 0},
-				{0, "step", drew(), words(s+1, s), s, 0},
-				{0, "step", granted(), words(s+1, s), s, s},
-				{0, "unlock", began(), words(s+1, s), s + 1, s},
-				{0, "step", called(), words(s+1, s+1), s + 1, s},
-				{0, "lock", began(), words(s+1, s+1), s + 1, s},
-				{0, "step", drew(), words(s+2, s+1), s + 1, s},
-				{0, "step", granted(), words(s+2, s+1), s + 1, s + 1},
-				{0, "unlock", began(), words(s+2, s+1), s + 2, s + 1},
-				{0, "step", called(), words(s+2, s+2), s + 2, s + 1},
-			})
-		}
+		doTold(t, 1, s, []locktest.Told{
+			told(0, locktest.Locks, began(), words(s, s), 0, 0),
+			told(0, locktest.Steps, drew(), words(s+1, s), s, 0),
+			told(0, locktest.Steps, granted(), words(s+1, s), s, s),
+			told(0, locktest.Unlocks, began(), words(s+1, s), s+1, s),
+			told(0, locktest.Steps, called(), words(s+1, s+1), s+1, s),
+			told(0, locktest.Locks, began(), words(s+1, s+1), s+1, s),
+			told(0, locktest.Steps, drew(), words(s+2, s+1), s+1, s),
+			told(0, locktest.Steps, granted(), words(s+2, s+1), s+1, s+1),
+			told(0, locktest.Unlocks, began(), words(s+2, s+1), s+2, s+1),
+			told(0, locktest.Steps, called(), words(s+2, s+2), s+2, s+1),
+		})
 	}
 }
 
 func TestExampleOfTheChapter(t *testing.T) {
-	doAll(t, 1, 4294967295, false, []did{
-		{0, "lock", began(), words(4294967295, 4294967295), 0, 0},
-		{0, "step", drew(), words(0, 4294967295), 4294967295, 0},
-		{0, "step", granted(), words(0, 4294967295), 4294967295, 4294967295},
-		{0, "unlock", began(), words(0, 4294967295), 0, 4294967295},
-		{0, "step", called(), words(0, 0), 0, 4294967295},
+	doTold(t, 1, 4294967295, []locktest.Told{
+		told(0, locktest.Locks, began(), words(4294967295, 4294967295), 0, 0),
+		told(0, locktest.Steps, drew(), words(0, 4294967295), 4294967295, 0),
+		told(0, locktest.Steps, granted(), words(0, 4294967295), 4294967295, 4294967295),
+		told(0, locktest.Unlocks, began(), words(0, 4294967295), 0, 4294967295),
+		told(0, locktest.Steps, called(), words(0, 0), 0, 4294967295),
 	})
 }
 
 // The first one of the ten examples: the first one draws the last number, the second one 0.
 func TestTwoThreadsDrawTheLastNumberAnd0(t *testing.T) {
-	for _, late := range []bool{false, true} {
-		doAll(t, 2, top, late, []did{
-			{0, "lock", began(), words(top, top), 0, 0},
-			{1, "lock", began(), words(top, top), 0, 0},
-			{1, "step", drew(), words(0, top), top, 0},
-			{0, "step", drew(), words(1, top), 0, 0},
-			{0, "step", stays(), words(1, top), 0, top},
-			{1, "step", granted(), words(1, top), top, top},
-			{0, "step", stays(), words(1, top), 0, top},
-			{1, "unlock", began(), words(1, top), 0, top},
-			{0, "step", stays(), words(1, top), 0, top},
-			{1, "step", called(), words(1, 0), 0, top},
-			{1, "lock", began(), words(1, 0), 0, top},
-			{1, "step", drew(), words(2, 0), 1, top},
-			{1, "step", stays(), words(2, 0), 1, 0},
-			{0, "step", granted(), words(2, 0), 0, 0},
-			{0, "unlock", began(), words(2, 0), 1, 0},
-			{0, "step", called(), words(2, 1), 1, 0},
-			{1, "step", granted(), words(2, 1), 1, 1},
-		})
-	}
+	doTold(t, 2, top, []locktest.Told{
+		told(0, locktest.Locks, began(), words(top, top), 0, 0),
+		told(1, locktest.Locks, began(), words(top, top), 0, 0),
+		told(1, locktest.Steps, drew(), words(0, top), top, 0),
+		told(0, locktest.Steps, drew(), words(1, top), 0, 0),
+		told(0, locktest.Steps, stays(), words(1, top), 0, top),
+		told(1, locktest.Steps, granted(), words(1, top), top, top),
+		told(0, locktest.Steps, stays(), words(1, top), 0, top),
+		told(1, locktest.Unlocks, began(), words(1, top), 0, top),
+		told(0, locktest.Steps, stays(), words(1, top), 0, top),
+		told(1, locktest.Steps, called(), words(1, 0), 0, top),
+		told(1, locktest.Locks, began(), words(1, 0), 0, top),
+		told(1, locktest.Steps, drew(), words(2, 0), 1, top),
+		told(1, locktest.Steps, stays(), words(2, 0), 1, 0),
+		told(0, locktest.Steps, granted(), words(2, 0), 0, 0),
+		told(0, locktest.Unlocks, began(), words(2, 0), 1, 0),
+		told(0, locktest.Steps, called(), words(2, 1), 1, 0),
+		told(1, locktest.Steps, granted(), words(2, 1), 1, 1),
+	})
 }
 
 // A step of one whose call is over is none of the lock's, and changes nothing.
@@ -370,32 +318,12 @@ func do(t *testing.T, r *locktest.Run, thread, times int) {
 	}
 }
 
-// mixed is the threads, each once, in an order that looks mixed.
-func mixed(n, by int) []int {
-	var l []int
-	for k := range n {
-		l = slices.Insert(l, (k*by+by)%(k+1), k)
-	}
-	return l
-}
-
-// threadsOf is whose the entries of a kind are, in their order.
-func threadsOf(l []trace.Entry, kind int) []int {
-	var its []int
-	for _, x := range l {
-		if x.Kind == kind {
-			its = append(its, x.Thread)
-		}
-	}
-	return its
-}
-
 // All draw ahead of the first unlock, so that numbers go round while threads wait, between each two of them for some start.
 func TestNumbersGoRoundWhileThreadsWait(t *testing.T) {
 	for _, n := range []int{2, 3, 7, 64} {
 		for ahead := range n + 1 {
 			start := uint32(0) - uint32(ahead)
-			r, come := started(t, n, start), mixed(n, 5+ahead)
+			r, come := started(t, n, start), locktest.Shuffled(n, uint64(ahead))
 			for _, thread := range come {
 				do(t, r, thread, 2)
 			}
@@ -411,7 +339,7 @@ func TestNumbersGoRoundWhileThreadsWait(t *testing.T) {
 					t.Fatalf("%d threads, from %d on: the lock was not had by %d", n, start, thread)
 				}
 			}
-			if got := threadsOf(r.Entries, trace.Grant); !slices.Equal(got, come) {
+			if got := locktest.ThreadsOf(r.Entries, trace.Grant); !slices.Equal(got, come) {
 				t.Errorf("%d threads, from %d on: granted to %v, want %v", n, start, got, come)
 			}
 			checkCells(t, n, start, r)
@@ -422,7 +350,7 @@ func TestNumbersGoRoundWhileThreadsWait(t *testing.T) {
 // Who calls first, but draws last, is granted last.
 func TestFirstToDrawIsFirst(t *testing.T) {
 	for _, start := range starts {
-		r, come := started(t, 9, start), mixed(9, 4)
+		r, come := started(t, 9, start), locktest.Shuffled(9, 4)
 		for thread := range 9 {
 			do(t, r, thread, 1)
 		}
@@ -430,7 +358,7 @@ func TestFirstToDrawIsFirst(t *testing.T) {
 			do(t, r, thread, 1)
 		}
 		wantFine(t, 9, start, r.Turns([]int{0, 1, 2, 3, 4, 5, 6, 7, 8}, 0, 3*9))
-		if got := threadsOf(r.Entries, trace.Grant); !slices.Equal(got, come) {
+		if got := locktest.ThreadsOf(r.Entries, trace.Grant); !slices.Equal(got, come) {
 			t.Errorf("from %d on: granted to %v, want %v", start, got, come)
 		}
 	}
@@ -438,31 +366,13 @@ func TestFirstToDrawIsFirst(t *testing.T) {
 
 // P14.3
 
-// orders are some in which so many threads do steps by turns; in the last ones some do more of them than others.
-func orders(n int) [][]int {
-	rising := make([]int, n)
-	for k := range n {
-		rising[k] = k
-	}
-	falling := slices.Clone(rising)
-	slices.Reverse(falling)
-	return [][]int{rising, falling, mixed(n, 3), mixed(n, 8), slices.Concat(rising, falling[:1]), slices.Concat(rising[:n/2], falling, rising[:1])}
-}
-
 // Behind the call and the draw, each of those ahead does three things at most: it sees its number, calls to unlock, and calls the next one.
-func longestCall(n int, order []int) int {
-	most := 0
-	for thread := range n {
-		its := slices.DeleteFunc(slices.Clone(order), func(k int) bool { return k != thread })
-		most = max(most, len(its))
-	}
-	return 3 * n * most
-}
+func longestCall(n int, order []int) int { return 3 * n * locktest.Most(order) }
 
 func TestEachCallComesToItsEnd(t *testing.T) {
 	for _, n := range []int{1, 2, 3, 4, 5, 8, 17, 63, 64} {
 		for _, start := range starts {
-			for _, order := range orders(n) {
+			for _, order := range locktest.Orders(n) {
 				r := started(t, n, start)
 				wantFine(t, n, start, r.Turns(order, 5, longestCall(n, order)))
 				checkServed(t, n, 5, start, r)
@@ -490,7 +400,7 @@ func TestACallAloneBehindAll(t *testing.T) {
 	for _, n := range []int{1, 2, 3, 64} {
 		for _, start := range starts {
 			r := started(t, n, start)
-			wantFine(t, n, start, r.Turns(mixed(n, 3), 3, 3*n))
+			wantFine(t, n, start, r.Turns(locktest.Shuffled(n, 3), 3, 3*n))
 			for thread := range n {
 				wantFine(t, n, start, r.Turns([]int{thread}, 1, 3))
 			}
@@ -506,7 +416,7 @@ func TestEachCallComesToItsEndBehindMixedWays(t *testing.T) {
 			start := top - uint32(seed*n)
 			r := started(t, n, start)
 			wantFine(t, n, start, r.Mixed(uint64(seed), 20*n+seed))
-			wantFine(t, n, start, r.Turns(mixed(n, 3), 2, 3*n))
+			wantFine(t, n, start, r.Turns(locktest.Shuffled(n, 3), 2, 3*n))
 			if w := r.Work.Words(); w[0] != w[1] {
 				t.Errorf("%d threads, from %d on: in the end the cells are %v", n, start, w)
 			}
