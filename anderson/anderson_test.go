@@ -128,17 +128,14 @@ func (c config) started(t *testing.T) *locktest.Run {
 	return r
 }
 
-func wantSpec(t *testing.T, s api.Spec, c config) {
+// chapterSpec is the spec that the chapter says.
+func (c config) chapterSpec() api.Spec {
+	return api.Spec{Code: chapterCode(c.slots), Sizes: []int{1, c.slots}, Init: c.cells(c.start, c.start, true), R7: make([]uint32, c.n)}
+}
+
+func wantSpec(t *testing.T, c config) {
 	t.Helper()
-	if !asm.Same(s.Code, chapterCode(c.slots)) {
-		t.Errorf("%v: the code is %+v", c, s.Code)
-	}
-	if !slices.Equal(s.Sizes, []int{1, c.slots}) || !slices.Equal(s.Init, c.cells(c.start, c.start, true)) || s.Each != 0 {
-		t.Errorf("%v: sizes %v, cells %v, each %d", c, s.Sizes, s.Init, s.Each)
-	}
-	if !slices.Equal(s.R7, make([]uint32, c.n)) {
-		t.Errorf("%v: the registers 7 are %v", c, s.R7)
-	}
+	wantFine(t, c, locktest.Alike(c.spec(t), c.chapterSpec()))
 }
 
 func wantFine(t *testing.T, c config, err error) {
@@ -191,7 +188,7 @@ func TestTheCodeIsTheTextAssembled(t *testing.T) {
 func TestSpec(t *testing.T) {
 	for n := 1; n <= api.MaxThreads; n++ {
 		for _, c := range configs(n) {
-			wantSpec(t, c.spec(t), c)
+			wantSpec(t, c)
 		}
 	}
 }
@@ -201,7 +198,7 @@ func TestEachSlotCanBeTheFirst(t *testing.T) {
 		for first := range 2 * slots {
 			for _, start := range []uint32{uint32(first), 1<<31 + uint32(first), uint32(0) - uint32(first)} {
 				c := config{1, slots, start}
-				wantSpec(t, c.spec(t), c)
+				wantSpec(t, c)
 			}
 		}
 	}
@@ -232,9 +229,7 @@ func wantRefused(t *testing.T, n, slots int) {
 		if e != api.ErrConfig {
 			t.Errorf("Spec(%d, %d, %d): error %d, want %d", n, slots, start, e, api.ErrConfig)
 		}
-		if len(s.Code.L)+len(s.Sizes)+len(s.Init)+len(s.R7) != 0 || s.Code.Lock != 0 || s.Code.Unlock != 0 || s.Each != 0 {
-			t.Errorf("Spec(%d, %d, %d) = %+v beside the error", n, slots, start, s)
-		}
+		wantFine(t, config{n, slots, start}, locktest.Alike(s, api.Spec{}))
 	}
 }
 
@@ -272,7 +267,7 @@ func TestTooFewSlotsAreRefused(t *testing.T) {
 				continue
 			}
 			c := config{n, slots, 0}
-			wantSpec(t, c.spec(t), c)
+			wantSpec(t, c)
 		}
 	}
 }
@@ -290,27 +285,7 @@ func TestThreeThreadsAskForFourSlotsOrMore(t *testing.T) {
 
 func TestWhatIsAnsweredIsItsOwn(t *testing.T) {
 	for _, c := range configs(1, 2, 63, 64) {
-		first, second := c.spec(t), c.spec(t)
-		locktest.Spoil(&first)
-		wantSpec(t, second, c)
-		wantSpec(t, c.spec(t), c)
-		locktest.Spoil(&second)
-		wantSpec(t, c.spec(t), c)
-	}
-}
-
-func TestListsOfOneAnswerShareNothing(t *testing.T) {
-	c := config{2, 2, 9}
-	for _, spoilCells := range []bool{true, false} {
-		whole := c.spec(t)
-		part := api.Spec{R7: whole.R7}
-		if spoilCells {
-			part = api.Spec{Init: whole.Init}
-		}
-		locktest.Spoil(&part)
-		if spoilCells && !slices.Equal(whole.R7, []uint32{0, 0}) || !spoilCells && !slices.Equal(whole.Init, []uint32{9, 0, 1}) {
-			t.Errorf("cells spoilt: %v: the cells are %v, the registers 7 %v", spoilCells, whole.Init, whole.R7)
-		}
+		wantFine(t, c, locktest.Own(c.chapterSpec(), func() api.Spec { return c.spec(t) }))
 	}
 }
 
@@ -463,14 +438,6 @@ func checkCells(t *testing.T, c config, r *locktest.Run) {
 	}
 }
 
-// do lets a thread do something so many times.
-func do(t *testing.T, c config, r *locktest.Run, thread, times int) {
-	t.Helper()
-	for range times {
-		wantFine(t, c, r.Do(thread, false))
-	}
-}
-
 // All draw ahead of the first unlock, so that numbers, and slots, go round while threads wait, between each two of them for some start.
 func TestNumbersGoRoundWhileThreadsWait(t *testing.T) {
 	for _, n := range []int{2, 3, 4, 7, 64} {
@@ -479,7 +446,7 @@ func TestNumbersGoRoundWhileThreadsWait(t *testing.T) {
 				c := config{n, slots, uint32(0) - uint32(ahead)}
 				r, come := c.started(t), locktest.Shuffled(n, uint64(ahead))
 				for _, thread := range come {
-					do(t, c, r, thread, 2)
+					wantFine(t, c, r.DoTimes(thread, 2))
 				}
 				wantServed(t, c, r, come)
 			}
@@ -487,25 +454,12 @@ func TestNumbersGoRoundWhileThreadsWait(t *testing.T) {
 	}
 }
 
-// wantServed asks that those who wait have the lock in that order, while those behind look in vain.
+// wantServed asks that those who wait have the lock in that order.
 func wantServed(t *testing.T, c config, r *locktest.Run, come []int) {
 	t.Helper()
-	for turn, thread := range come {
-		for _, waits := range come[turn+1:] {
-			do(t, c, r, waits, 1)
-			if r.State(waits) != fifo.Queued {
-				t.Fatalf("%v: %d doesn't wait for %d", c, waits, thread)
-			}
-		}
-		do(t, c, r, thread, 4)
-		if r.State(thread) != fifo.Idle {
-			t.Fatalf("%v: the lock was not had by %d", c, thread)
-		}
+	for turn := range come {
+		wantFine(t, c, r.Serve(come[turn:], 4))
 		checkCells(t, c, r)
-	}
-	grants := locktest.ThreadsOf(r.Entries, trace.Grant)
-	if got := grants[len(grants)-len(come):]; !slices.Equal(got, come) {
-		t.Errorf("%v: granted to %v, want %v", c, got, come)
 	}
 }
 
@@ -514,10 +468,10 @@ func TestFirstToDrawIsFirst(t *testing.T) {
 	for _, c := range configs(9) {
 		r, come := c.started(t), locktest.Shuffled(9, 4)
 		for thread := range c.n {
-			do(t, c, r, thread, 1)
+			wantFine(t, c, r.DoTimes(thread, 1))
 		}
 		for _, thread := range come {
-			do(t, c, r, thread, 1)
+			wantFine(t, c, r.DoTimes(thread, 1))
 		}
 		wantServed(t, c, r, come)
 	}
@@ -530,11 +484,11 @@ func TestAgainBehindAllOthers(t *testing.T) {
 			c := config{n, n, start}
 			r, come := c.started(t), locktest.Shuffled(n, uint64(n))
 			for _, thread := range come {
-				do(t, c, r, thread, 2)
+				wantFine(t, c, r.DoTimes(thread, 2))
 			}
 			for range 2*n + 1 {
 				first := come[0]
-				do(t, c, r, first, 4+2)
+				wantFine(t, c, r.DoTimes(first, 4+2))
 				come = append(come[1:], first)
 			}
 			wantServed(t, c, r, come)
@@ -560,12 +514,7 @@ func TestEachCallComesToItsEnd(t *testing.T) {
 // checkServed asks that each thread had the lock so many times, and that nothing is left to be done.
 func checkServed(t *testing.T, c config, calls int, r *locktest.Run) {
 	t.Helper()
-	for thread := range c.n {
-		its := trace.Of(r.Entries, thread)
-		if got, over := trace.Count(its, trace.Got), trace.Count(its, trace.Over); got != calls || over != calls || r.State(thread) != fifo.Idle {
-			t.Errorf("%v: %d had the lock %d times, and was over with it %d times, want %d", c, thread, got, over, calls)
-		}
-	}
+	wantFine(t, c, r.Served(calls))
 	next := c.start + uint32(c.n*calls)
 	if w := r.Work.Words(); !slices.Equal(w, c.cells(next, next, true)) {
 		t.Errorf("%v: in the end the cells are %v, the next number is %d", c, w, next)

@@ -172,14 +172,14 @@ type doing struct {
 	late   bool
 }
 
-// AllWays lets the threads do something, so many times, in each way in which their doings can follow each other, and counts how differently all stood behind some of it. Ways behind which all stands alike go on as one: so no lock with nodes is taken, of which it can't be seen which one is free next.
+// AllWays lets the threads do something, so many times, in each way in which their doings can follow each other, and counts how differently all stood behind some of it. Ways behind which all stands alike go on as one: so no lock with nodes is taken, of which it can't be seen which one is free next, and once all stands as it stood before in each of them, these were all ways, however long.
 func AllWays(s api.Spec, threads, doings int) (int, error) {
 	if s.Each != 0 {
 		return 0, fault("a lock with nodes")
 	}
 	met := map[string]bool{}
 	ways := [][]doing{nil}
-	for range doings {
+	for left := doings; left > 0 && len(ways) > 0; left-- {
 		var longer [][]doing
 		for _, way := range longerByOne(ways, threads) {
 			standing, err := behind(s, threads, way)

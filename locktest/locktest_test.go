@@ -1,6 +1,7 @@
 package locktest
 
 import (
+	"math"
 	"slices"
 	"strings"
 	"testing"
@@ -50,6 +51,9 @@ done 2
 
 // alone is one for one thread, of which nothing asks a cell.
 const alone = "lock:\nmark 1\nmark 2\ndone 1\nunlock:\nmark 4\ndone 2\n"
+
+// noFit is what is told where the abstract lock doesn't take an entry.
+const noFit = "doesn't fit"
 
 func specOf(t *testing.T, text string, threads int) api.Spec {
 	t.Helper()
@@ -169,7 +173,7 @@ func TestARightLockIsFine(t *testing.T) {
 
 // Each is the lock told above with one line changed, or more, and what each of the three runs tells of it.
 func TestFaultsAreTold(t *testing.T) {
-	const noFit, trap, late, lost = "doesn't fit", "a trap", "too long", "without the lock"
+	const trap, late, lost = "a trap", "too long", "without the lock"
 	for _, c := range []struct {
 		what, old, new     string
 		ways, mixed, turns string
@@ -269,6 +273,9 @@ func TestAllWaysGoesAllWays(t *testing.T) {
 	}
 	if n, err := AllWays(specOf(t, alone, 1), 1, 90); n != 2 || err != nil {
 		t.Errorf("one thread, that has the lock or not: %d, %v", n, err)
+	}
+	if n, err := AllWays(specOf(t, alone, 1), 1, math.MaxInt); n != 2 || err != nil {
+		t.Errorf("one thread, that has the lock or not, however long: %d, %v", n, err)
 	}
 	slow := strings.Replace(alone, "done 1\n", "store 0 r0 r0\nstore 0 r0 r0\nstore 0 r0 r0\ndone 1\n", 1)
 	if n, err := AllWays(specOf(t, slow, 1), 1, 90); n != 5 || err != nil {

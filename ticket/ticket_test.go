@@ -69,17 +69,9 @@ func started(t *testing.T, n int, start uint32) *locktest.Run {
 	return r
 }
 
-func wantSpec(t *testing.T, s api.Spec, n int, start uint32) {
-	t.Helper()
-	if !asm.Same(s.Code, chapterCode) {
-		t.Errorf("Spec(%d, %d): the code is %+v", n, start, s.Code)
-	}
-	if !slices.Equal(s.Sizes, []int{1, 1}) || !slices.Equal(s.Init, []uint32{start, start}) || s.Each != 0 {
-		t.Errorf("Spec(%d, %d): sizes %v, cells %v, each %d", n, start, s.Sizes, s.Init, s.Each)
-	}
-	if !slices.Equal(s.R7, make([]uint32, n)) {
-		t.Errorf("Spec(%d, %d): the registers 7 are %v", n, start, s.R7)
-	}
+// chapterSpec is the spec that the chapter says.
+func chapterSpec(n int, start uint32) api.Spec {
+	return api.Spec{Code: chapterCode, Sizes: []int{1, 1}, Init: []uint32{start, start}, R7: make([]uint32, n)}
 }
 
 func wantFine(t *testing.T, n int, start uint32, err error) {
@@ -113,7 +105,7 @@ func TestTheCodeIsTheTextAssembled(t *testing.T) {
 func TestSpec(t *testing.T) {
 	for n := 1; n <= api.MaxThreads; n++ {
 		for _, start := range starts {
-			wantSpec(t, spec(t, n, start), n, start)
+			wantFine(t, n, start, locktest.Alike(spec(t, n, start), chapterSpec(n, start)))
 		}
 	}
 }
@@ -136,9 +128,7 @@ func TestSpecRefusesWhatMayNotBe(t *testing.T) {
 			if e != api.ErrConfig {
 				t.Errorf("Spec(%d, %d): error %d, want %d", n, start, e, api.ErrConfig)
 			}
-			if len(s.Code.L)+len(s.Sizes)+len(s.Init)+len(s.R7) != 0 || s.Code.Lock != 0 || s.Code.Unlock != 0 || s.Each != 0 {
-				t.Errorf("Spec(%d, %d) = %+v beside the error", n, start, s)
-			}
+			wantFine(t, n, start, locktest.Alike(s, api.Spec{}))
 		}
 	}
 }
@@ -146,29 +136,8 @@ func TestSpecRefusesWhatMayNotBe(t *testing.T) {
 func TestWhatIsAnsweredIsItsOwn(t *testing.T) {
 	for _, n := range []int{1, 2, 63, 64} {
 		for _, start := range starts {
-			first, second := spec(t, n, start), spec(t, n, start)
-			locktest.Spoil(&first)
-			wantSpec(t, second, n, start)
-			wantSpec(t, spec(t, n, start), n, start)
-			locktest.Spoil(&second)
-			wantSpec(t, spec(t, n, start), n, start)
+			wantFine(t, n, start, locktest.Own(chapterSpec(n, start), func() api.Spec { return spec(t, n, start) }))
 		}
-	}
-}
-
-func TestListsOfOneAnswerShareNothing(t *testing.T) {
-	s := spec(t, 2, 9)
-	for n := range s.Init[:cap(s.Init)] {
-		s.Init[:cap(s.Init)][n] = 77
-	}
-	if !slices.Equal(s.R7, []uint32{0, 0}) {
-		t.Errorf("with other cells the registers 7 are %v", s.R7)
-	}
-	for n := range s.R7[:cap(s.R7)] {
-		s.R7[:cap(s.R7)][n] = 66
-	}
-	if !slices.Equal(s.Init, []uint32{77, 77}) {
-		t.Errorf("with other registers 7 the cells are %v", s.Init)
 	}
 }
 
@@ -308,16 +277,6 @@ func checkCells(t *testing.T, n int, start uint32, r *locktest.Run) {
 	}
 }
 
-// do lets a thread do something so many times.
-func do(t *testing.T, r *locktest.Run, thread, times int) {
-	t.Helper()
-	for range times {
-		if err := r.Do(thread, false); err != nil {
-			t.Fatal(err)
-		}
-	}
-}
-
 // All draw ahead of the first unlock, so that numbers go round while threads wait, between each two of them for some start.
 func TestNumbersGoRoundWhileThreadsWait(t *testing.T) {
 	for _, n := range []int{2, 3, 7, 64} {
@@ -325,24 +284,12 @@ func TestNumbersGoRoundWhileThreadsWait(t *testing.T) {
 			start := uint32(0) - uint32(ahead)
 			r, come := started(t, n, start), locktest.Shuffled(n, uint64(ahead))
 			for _, thread := range come {
-				do(t, r, thread, 2)
+				wantFine(t, n, start, r.DoTimes(thread, 2))
 			}
-			for turn, thread := range come {
-				for _, waits := range come[turn+1:] {
-					do(t, r, waits, 1)
-					if r.State(waits) != fifo.Queued {
-						t.Fatalf("%d threads, from %d on: %d doesn't wait for %d", n, start, waits, thread)
-					}
-				}
-				do(t, r, thread, 3)
-				if r.State(thread) != fifo.Idle {
-					t.Fatalf("%d threads, from %d on: the lock was not had by %d", n, start, thread)
-				}
+			for turn := range come {
+				wantFine(t, n, start, r.Serve(come[turn:], 3))
+				checkCells(t, n, start, r)
 			}
-			if got := locktest.ThreadsOf(r.Entries, trace.Grant); !slices.Equal(got, come) {
-				t.Errorf("%d threads, from %d on: granted to %v, want %v", n, start, got, come)
-			}
-			checkCells(t, n, start, r)
 		}
 	}
 }
@@ -352,10 +299,10 @@ func TestFirstToDrawIsFirst(t *testing.T) {
 	for _, start := range starts {
 		r, come := started(t, 9, start), locktest.Shuffled(9, 4)
 		for thread := range 9 {
-			do(t, r, thread, 1)
+			wantFine(t, 9, start, r.DoTimes(thread, 1))
 		}
 		for _, thread := range come {
-			do(t, r, thread, 1)
+			wantFine(t, 9, start, r.DoTimes(thread, 1))
 		}
 		wantFine(t, 9, start, r.Turns([]int{0, 1, 2, 3, 4, 5, 6, 7, 8}, 0, 3*9))
 		if got := locktest.ThreadsOf(r.Entries, trace.Grant); !slices.Equal(got, come) {
@@ -384,12 +331,7 @@ func TestEachCallComesToItsEnd(t *testing.T) {
 // checkServed asks that each thread had the lock so many times, and that nothing is left to be done.
 func checkServed(t *testing.T, n, calls int, start uint32, r *locktest.Run) {
 	t.Helper()
-	for thread := range n {
-		its := trace.Of(r.Entries, thread)
-		if got, over := trace.Count(its, trace.Got), trace.Count(its, trace.Over); got != calls || over != calls || r.State(thread) != fifo.Idle {
-			t.Errorf("%d threads, from %d on: %d had the lock %d times, and was over with it %d times, want %d", n, start, thread, got, over, calls)
-		}
-	}
+	wantFine(t, n, start, r.Served(calls))
 	next := start + uint32(n*calls)
 	if w := r.Work.Words(); !slices.Equal(w, []uint32{next, next}) {
 		t.Errorf("%d threads, from %d on: in the end the cells are %v, want %d twice", n, start, w, next)
