@@ -1,11 +1,9 @@
 package graunke
 
 import (
-	"strings"
 	"testing"
 
 	"ropeline/api"
-	"ropeline/asm"
 	"ropeline/exec"
 	"ropeline/fifo"
 	"ropeline/locktest"
@@ -80,11 +78,9 @@ func spec(t *testing.T, n int) api.Spec {
 	return s
 }
 
-func started(t *testing.T, n int) *locktest.Run {
+func trial(t *testing.T, n int) locktest.Trial {
 	t.Helper()
-	r, err := locktest.Start(spec(t, n), n)
-	wantFine(t, n, err)
-	return r
+	return locktest.Trial{Spec: spec(t, n), Threads: n, Join: 3, Have: 3, Alone: 4, Check: checkCells}
 }
 
 func wantFine(t *testing.T, n int, err error) {
@@ -96,29 +92,12 @@ func wantFine(t *testing.T, n int, err error) {
 
 // P16.1
 
-func TestText(t *testing.T) {
-	want := strings.Join(chapter, "\n") + "\n"
-	for range 2 {
-		if got := Text(); got != want {
-			t.Errorf("Text() = %q, want %q", got, want)
-		}
-	}
-}
-
-func TestTheCodeIsTheTextAssembled(t *testing.T) {
-	c, line, e := asm.Assemble(Text())
-	if e != api.OK || line != 0 || !asm.Same(c, chapterCode) {
-		t.Errorf("Assemble(Text()) = %+v, line %d, error %d, want %+v", c, line, e, chapterCode)
-	}
-	if s := spec(t, 1); !asm.Same(s.Code, c) || !asm.Right(s.Code) {
-		t.Errorf("the spec's code is %+v, want %+v", s.Code, c)
-	}
+func TestProgram(t *testing.T) {
+	wantFine(t, 1, locktest.Program(Text, chapter, chapterCode))
 }
 
 func TestSpec(t *testing.T) {
-	for n := 1; n <= api.MaxThreads; n++ {
-		wantFine(t, n, locktest.Alike(spec(t, n), chapterSpec(n)))
-	}
+	wantFine(t, api.MaxThreads, locktest.Specs(Spec, chapterSpec))
 }
 
 // The cells of the fewest threads, of the chapter's example, and of the most.
@@ -129,31 +108,6 @@ func TestCells(t *testing.T) {
 		want := chapterSpec(n)
 		want.Init = cells
 		wantFine(t, n, locktest.Alike(spec(t, n), want))
-	}
-}
-
-func TestSpecIsALocks(t *testing.T) {
-	for n := 1; n <= api.MaxThreads; n++ {
-		s := spec(t, n)
-		if !exec.Right(s, n) || exec.Right(s, n-1) || exec.Right(s, n+1) {
-			t.Errorf("Spec(%d) may be for %d threads: %v, for one less: %v, for one more: %v", n, n, exec.Right(s, n), exec.Right(s, n-1), exec.Right(s, n+1))
-		}
-	}
-}
-
-func TestThreadsThatMayNotBeAreRefused(t *testing.T) {
-	for _, n := range locktest.WrongSizes() {
-		s, e := Spec(n)
-		if e != api.ErrConfig {
-			t.Errorf("Spec(%d): error %d, want %d", n, e, api.ErrConfig)
-		}
-		wantFine(t, n, locktest.Alike(s, api.Spec{}))
-	}
-}
-
-func TestWhatIsAnsweredIsItsOwn(t *testing.T) {
-	for _, n := range []int{1, 2, 3, 63, 64} {
-		wantFine(t, n, locktest.Own(chapterSpec(n), func() api.Spec { return spec(t, n) }))
 	}
 }
 
@@ -291,12 +245,13 @@ func TestAllWays(t *testing.T) {
 func TestLongMixedWays(t *testing.T) {
 	for _, n := range []int{1, 2, 3, 4, 5, 8, 16, 63, 64} {
 		for seed := range uint64(13) {
-			r := started(t, n)
+			r, err := locktest.Start(spec(t, n), n)
+			wantFine(t, n, err)
 			wantFine(t, n, r.Mixed(seed, 6000))
 			if fit, ok := fifo.Check(n, r.Entries); !ok {
 				t.Errorf("%d threads: %d of %d entries fit", n, fit, len(r.Entries))
 			}
-			checkCells(t, n, r)
+			wantFine(t, n, checkCells(r))
 			if n <= 5 && trace.Count(r.Entries, trace.Over) < 80 {
 				t.Errorf("%d threads: the lock was had %d times alone", n, trace.Count(r.Entries, trace.Over))
 			}
@@ -305,9 +260,8 @@ func TestLongMixedWays(t *testing.T) {
 }
 
 // checkCells asks that each flag was turned as often as its thread released the lock, and that the tail is the name of the one who came last, with its flag as it was then.
-func checkCells(t *testing.T, n int, r *locktest.Run) {
-	t.Helper()
-	want := chapterSpec(n)
+func checkCells(r *locktest.Run) error {
+	want := chapterSpec(r.Work.Threads())
 	for _, x := range r.Entries {
 		flag := &want.Init[1+x.Thread]
 		switch x.Kind {
@@ -317,115 +271,49 @@ func checkCells(t *testing.T, n int, r *locktest.Run) {
 			*flag = 1 - *flag
 		}
 	}
-	got := chapterSpec(n)
+	got := chapterSpec(r.Work.Threads())
 	got.Init = r.Work.Words()
-	wantFine(t, n, locktest.Alike(got, want))
-}
-
-// come lets threads call, and come to their places, in that order.
-func come(t *testing.T, r *locktest.Run, l []int) {
-	t.Helper()
-	for _, thread := range l {
-		wantFine(t, len(l), r.DoTimes(thread, 3))
-	}
-}
-
-// wantServed asks that those who wait have the lock in that order.
-func wantServed(t *testing.T, n int, r *locktest.Run, waiting []int) {
-	t.Helper()
-	for turn := range waiting {
-		wantFine(t, n, r.Serve(waiting[turn:], 3))
-		checkCells(t, n, r)
-	}
+	return locktest.Alike(got, want)
 }
 
 // Each time they come in another order, so that each waits for some others, by both flags.
 func TestAllWaitInTheOrderInWhichTheyCame(t *testing.T) {
 	for _, n := range []int{1, 2, 3, 4, 7, 64} {
-		r := started(t, n)
-		for seed := range uint64(9) {
-			l := locktest.Shuffled(n, seed)
-			come(t, r, l)
-			wantServed(t, n, r, l)
-		}
+		wantFine(t, n, trial(t, n).InOrder())
 	}
 }
 
 // Who calls first, and reads its flag first, but is the last one to put its name into the tail, is granted last.
 func TestFirstInTheTailIsFirst(t *testing.T) {
-	for seed := range uint64(5) {
-		r, l := started(t, 9), locktest.Shuffled(9, seed)
-		for doing := range 2 * 9 {
-			wantFine(t, 9, r.DoTimes(doing%9, 1))
-		}
-		for _, thread := range l {
-			wantFine(t, 9, r.DoTimes(thread, 1))
-		}
-		wantServed(t, 9, r, l)
+	for _, n := range []int{1, 2, 3, 9, 64} {
+		wantFine(t, n, trial(t, n).LastDoingFirst())
 	}
 }
 
 // Who is behind has not looked yet, when the one ahead unlocks and calls again: its flag is turned once alone.
 func TestWhoIsAheadCallsAgainAheadOfALook(t *testing.T) {
 	for _, n := range []int{1, 2, 3, 5, 64} {
-		r, l := started(t, n), locktest.Shuffled(n, uint64(n))
-		come(t, r, l)
-		for range 3*n + 1 {
-			first := l[0]
-			wantFine(t, n, r.DoTimes(first, 3+3))
-			if r.State(first) != fifo.Queued {
-				t.Fatalf("%d threads: %d didn't have the lock, or doesn't wait", n, first)
-			}
-			l = append(l[1:], first)
-			checkCells(t, n, r)
-		}
-		wantServed(t, n, r, l)
+		wantFine(t, n, trial(t, n).AgainAtOnce())
 	}
 }
 
-// P16.3
-
-// It calls, notes its flag, comes to its place, and looks; each of those ahead does three things at most: it looks, calls to unlock, and turns its flag.
-func longestCall(n int, order []int) int { return (4 + 3*(n-1)) * locktest.Most(order) }
+// P16.3: a thread calls, notes its flag, comes to its place, and looks; each of those ahead does three things at most: it looks, calls to unlock, and turns its flag.
 
 func TestEachCallComesToItsEnd(t *testing.T) {
 	for _, n := range []int{1, 2, 3, 4, 5, 8, 17, 63, 64} {
-		for _, order := range locktest.Orders(n) {
-			for calls := range 7 {
-				r := started(t, n)
-				wantFine(t, n, r.Turns(order, calls, longestCall(n, order)))
-				wantFine(t, n, r.Served(calls))
-				checkCells(t, n, r)
-			}
-		}
+		wantFine(t, n, trial(t, n).EndsByTurns())
 	}
 }
 
 func TestACallAloneBehindAll(t *testing.T) {
 	for _, n := range []int{1, 2, 3, 64} {
-		for calls := range 4 {
-			r, l := started(t, n), locktest.Shuffled(n, uint64(calls))
-			wantFine(t, n, r.Turns(l, calls, longestCall(n, l)))
-			for thread := range n {
-				wantFine(t, n, r.Turns([]int{thread}, 2, 4))
-			}
-			wantFine(t, n, r.Served(calls+2))
-			checkCells(t, n, r)
-		}
+		wantFine(t, n, trial(t, n).EndsAlone())
 	}
 }
 
 // However all stand behind a mixed way: if they go on by turns, what they have begun comes to its end, and so do more calls.
 func TestEachCallComesToItsEndBehindMixedWays(t *testing.T) {
 	for _, n := range []int{1, 2, 3, 5, 16, 64} {
-		for seed := range 30 {
-			r, l := started(t, n), locktest.Shuffled(n, uint64(seed))
-			wantFine(t, n, r.Mixed(uint64(seed), 20*n+seed))
-			wantFine(t, n, r.Turns(l, 2, longestCall(n, l)))
-			if got, over := trace.Count(r.Entries, trace.Call), trace.Count(r.Entries, trace.Over); got != over {
-				t.Errorf("%d threads: of %d calls %d are over", n, got, over)
-			}
-			checkCells(t, n, r)
-		}
+		wantFine(t, n, trial(t, n).EndsBehindMixedWays())
 	}
 }

@@ -1,6 +1,8 @@
 package locktest
 
 import (
+	"math"
+	"strings"
 	"testing"
 
 	"ropeline/api"
@@ -99,4 +101,94 @@ func TestOwnAsksTheListsOfOne(t *testing.T) {
 		})
 		wantTold(t, "lists that share", err, "share memory")
 	}
+}
+
+func TestProgram(t *testing.T) {
+	lines, code := strings.Split(strings.TrimSuffix(alone, "\n"), "\n"), small(t).Code
+	same := func() string { return alone }
+	wantTold(t, "the program", Program(same, lines, code), "")
+	texts := 0
+	second := func() string {
+		texts++
+		return alone[:len(alone)-texts+1]
+	}
+	wantTold(t, "another text each time", Program(second, lines, code), "the text isn't the one")
+	other := asm.Copy(code)
+	other.L[0].K = 3
+	for _, c := range []struct {
+		sort  string
+		text  string
+		lines []string
+		code  api.Code
+	}{
+		{"the text isn't the one", alone + "\n", lines, code},
+		{"the text isn't the one", strings.TrimSuffix(alone, "\n"), lines, code},
+		{"the text isn't the one", strings.ReplaceAll(alone, "\n", "\r\n"), lines, code},
+		{"the text isn't the one", "", lines, code},
+		{"the text isn't the one", alone, lines[1:], code},
+		{"the text isn't a program's: 2 8", "lock:\nwait\n", []string{"lock:", "wait"}, code},
+		{"the code isn't the one", alone, lines, other},
+		{"the code isn't the one", alone, lines, api.Code{}},
+	} {
+		wantTold(t, c.sort, Program(func() string { return c.text }, c.lines, c.code), c.sort)
+	}
+}
+
+// specs are small ones, of so many threads.
+func specs(t *testing.T) (answer func(n int) (api.Spec, api.Errno), want func(n int) api.Spec) {
+	want = func(n int) api.Spec {
+		s := small(t)
+		s.R7 = make([]uint32, n)
+		return s
+	}
+	answer = func(n int) (api.Spec, api.Errno) {
+		if n < 1 || n > api.MaxThreads {
+			return api.Spec{}, api.ErrConfig
+		}
+		return want(n), api.OK
+	}
+	return answer, want
+}
+
+func TestSpecs(t *testing.T) {
+	answer, want := specs(t)
+	wantTold(t, "all of them", Specs(answer, want), "")
+	for _, c := range []struct {
+		sort   string
+		n      int
+		change func(s *api.Spec, e *api.Errno)
+	}{
+		{"a lock's of so many threads: 1", 1, func(_ *api.Spec, e *api.Errno) { *e = api.ErrConfig }},
+		{"a lock's of so many threads: 64", 64, func(s *api.Spec, _ *api.Errno) { s.R7 = s.R7[1:] }},
+		{"a lock's of so many threads: 63", 63, func(s *api.Spec, _ *api.Errno) { s.R7 = append(s.R7, 0) }},
+		{"a lock's of so many threads: 5", 5, func(s *api.Spec, _ *api.Errno) { s.Each = 9 }},
+		{"of so many threads 2: the cells are 7 8 0", 2, func(s *api.Spec, _ *api.Errno) { s.Init[2] = 0 }},
+		{"of so many threads 64: the registers 7", 64, func(s *api.Spec, _ *api.Errno) { s.R7[63] = 1 }},
+		{"so many threads aren't refused: 0", 0, func(_ *api.Spec, e *api.Errno) { *e = api.OK }},
+		{"so many threads aren't refused: 65", 65, func(_ *api.Spec, e *api.Errno) { *e = api.ErrArg }},
+		{"so many threads aren't refused: -1", -1, func(_ *api.Spec, e *api.Errno) { *e = api.ErrThread }},
+		{"beside a refusal: the sizes are 1", 65, func(s *api.Spec, _ *api.Errno) { s.Sizes = []int{1} }},
+		{"beside a refusal: each has 1 nodes", math.MinInt, func(s *api.Spec, _ *api.Errno) { s.Each = 1 }},
+	} {
+		err := Specs(func(n int) (api.Spec, api.Errno) {
+			s, e := answer(n)
+			if n == c.n {
+				c.change(&s, &e)
+			}
+			return s, e
+		}, want)
+		wantTold(t, c.sort, err, c.sort)
+	}
+}
+
+func TestSpecsAsksForSpecsOfTheirOwn(t *testing.T) {
+	answer, want := specs(t)
+	kept := want(7)
+	err := Specs(func(n int) (api.Spec, api.Errno) {
+		if n == 7 {
+			return kept, api.OK
+		}
+		return answer(n)
+	}, want)
+	wantTold(t, "one is kept", err, "of so many threads 7: once another one is spoilt: the code")
 }
